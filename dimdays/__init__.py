@@ -1,0 +1,1 @@
+"""Dimdays: what busy blocks tell about the meetings behind them."""
