@@ -2,6 +2,7 @@
 
 from dimdays.days import Day
 from dimdays.errors import InvalidDay, NoMeeting
+from dimdays.frames import Frame
 from dimdays.rules import Rule
 
 
@@ -20,7 +21,8 @@ def things():
         [], (), [1], (1,), [1, 2], (2, 1), (True, False), (1, 2, 3), [1, 2, False], (None, None, None),
         ((),), [[]], ([], [], []), nested(8, 3), nested(8, "busy"),
         Day(1), Day(9, [(1, 3, False), (3, 5, True)]), Rule(), Rule(2, 1, 3, "one", (1, 2)),
-        InvalidDay("length"), NoMeeting(3), [Day(2)], (Rule(), Day(2)),
+        InvalidDay("length"), NoMeeting(3), [Day(2)], (Rule(), Day(2)), Frame(3), Frame(9, 2, 3, True, [(0, True)]),
+        (Frame(3), Rule()), ((0, True),), ((1, 3, "busy"),), [(1, 3, "busy")],
     ]
 
 
