@@ -1,5 +1,6 @@
 """What is known of a day: whether it fits, some day that does, and how many do."""
 
+from dimdays.counting import count_ways
 from dimdays.letters import day_read
 from dimdays.looks import check_looks
 from dimdays.showing import show
@@ -19,11 +20,11 @@ def fits(frame, looks):
 
 
 def _some_letters(ways):
-    """Return the letters of some way from a first node; there must be one."""
-    node = list(ways[0])[0]
+    """Return the letters of some way; there must be one."""
+    node = 0
     letters = []
-    for nodes in ways[:-1]:
-        letter, node = nodes[node][0]
+    for rows in ways[:-1]:
+        letter, node = rows[node][0]
         letters.append(letter)
     return letters
 
@@ -40,8 +41,4 @@ def a_day(frame, looks):
 def many_days(frame, looks):
     """Return how many days fit."""
     check_looks(looks)
-    ways = closing_ways(frame, looks)
-    counts = {node: 1 for node in ways[-1]}
-    for nodes in reversed(list(ways[:-1])):
-        counts = {node: sum([counts[reached] for _, reached in pairs]) for node, pairs in nodes.items()}
-    return sum(list(counts.values()))
+    return count_ways(closing_ways(frame, looks))

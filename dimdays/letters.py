@@ -6,6 +6,8 @@ A head is the part (going, run, many) of a standing.
 from dimdays.days import Day
 
 LETTERS = ("free", "busy", "private", "on")
+# The letters with which a meeting begins.
+KINDS = ("busy", "private")
 FIRST_HEAD = ("", 0, 0)
 
 
@@ -30,6 +32,13 @@ def is_long_enough(frame, head):
     """Tell whether the meeting that is going on, if there is one, may end."""
     going, run, _ = head
     return going == "" or run == frame.shortest
+
+
+def going_behind(going, letter):
+    """Return the kind of the meeting that is going on behind a letter, or "" without one."""
+    if letter == "on":
+        return going
+    return "" if letter == "free" else letter
 
 
 def next_head(frame, head, letter):

@@ -41,8 +41,19 @@ def _numbered(behind, states):
     return told, list(numbers)
 
 
+def _moves(maker):
+    """Return what each letter, behind each kind of meeting that is going on, means to a maker's machine."""
+    moves = {}
+    for going in ("", "busy", "private"):
+        moves[going, "free"] = RESTS
+        moves[going, "on"] = GOES_ON if going != "" and maker.takes(going) else RESTS
+        for kind in ("busy", "private"):
+            moves[going, kind] = STARTS if maker.takes(kind) else RESTS
+    return moves
+
+
 class Machine:
-    """A maker's first state, and for each tick the rows with the states to which each state leads."""
+    """A maker's first state, its moves, and for each tick the rows with the states to which each state leads."""
 
     def __init__(self, maker, length):
         told, last = _tallies(maker, length)
@@ -53,14 +64,5 @@ class Machine:
             tables.append(table)
         self.tables = tables[::-1]
         self.first = states[FIRST_TALLY]
-
-
-def make_moves(maker):
-    """Return what each letter, behind each kind of meeting that is going on, means to a maker's machine."""
-    moves = {}
-    for going in ("", "busy", "private"):
-        moves[going, "free"] = RESTS
-        moves[going, "on"] = GOES_ON if going != "" and maker.takes(going) else RESTS
-        for kind in ("busy", "private"):
-            moves[going, kind] = STARTS if maker.takes(kind) else RESTS
-    return moves
+        self.moves = _moves(maker)
+        self.size = sum([len(table) for table in tables])

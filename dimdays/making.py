@@ -5,6 +5,7 @@ block that is being made, or None.
 """
 
 from dimdays.blocks import WORDS, is_joined, put_down, put_up, span_shown, word_shown
+from dimdays.letters import KINDS
 
 FIRST_TALLY = (0, None)
 
@@ -17,10 +18,16 @@ class Maker:
         self.rule = rule
         self.word = word
         self.spans = tuple([(begin, end) for begin, end, told in view if told == word])
+        self.kinds = tuple([kind for kind in KINDS if word_shown(rule, kind == "private") == word])
 
     def takes(self, kind):
         """Tell whether a meeting of a kind, "busy" or "private", makes blocks of this word."""
-        return word_shown(self.rule, kind == "private") == self.word
+        return kind in self.kinds
+
+    def is_idle(self, frame):
+        """Tell whether no day of a frame makes blocks of this word, and none is wanted."""
+        takes_any = self.takes("busy") or (frame.private and self.takes("private"))
+        return not takes_any and len(self.spans) == 0
 
     def laid(self, tally):
         """Return the tally when its block lies behind, or None if this is not possible."""

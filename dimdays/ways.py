@@ -1,13 +1,51 @@
 """The ways through the net: all rows of letters that lead from the first standing to one that closes.
 
-A node (going, run, many, states) stands for all standings that are alike from there on: `states` are those of the
-machines of all looks and words.
+Ways are told by a list that has ahead of each tick, and behind the last one, a list of rows: one for each node there,
+with pairs (letter, index of the node behind it). Each node lies on a way that closes, nodes from which the same rows
+of letters lead on are one, and no two pairs of a row have the same letter. So there is one node ahead of the first
+tick and one behind the last one, or none anywhere if no day fits.
 """
 
 from dimdays.frames import Frame
-from dimdays.letters import FIRST_HEAD, LETTERS, is_let, is_long_enough, next_head
-from dimdays.machines import DEAD, Machine, make_moves
+from dimdays.letters import FIRST_HEAD, LETTERS, going_behind, is_let, is_long_enough, next_head
+from dimdays.machines import DEAD, Machine
 from dimdays.making import make_makers
+
+
+def _explored(length, first, pairs_ahead):
+    """Return the rows of all nodes that are reached from a first one, and the nodes behind the last tick.
+
+    `pairs_ahead(tick, node)` tells the pairs (letter, node behind it) that lead on from a node.
+    """
+    lots = []
+    here = {first: 0}
+    for tick in range(length):
+        lot, behind = [], {}
+        for node in here:
+            pairs = pairs_ahead(tick, node)
+            lot.append([(letter, behind.setdefault(reached, len(behind))) for letter, reached in pairs])
+        lots.append(lot)
+        here = behind
+    return lots, list(here)
+
+
+def _index_of(row, numbers, found):
+    """Return the index in `found` of what a row is when the nodes behind it are merged, or None if none closes."""
+    told = tuple([(letter, numbers[node]) for letter, node in row if numbers[node] is not None])
+    if len(told) == 0:
+        return None
+    return found.setdefault(told, len(found))
+
+
+def _merged(lots, are_closing):
+    """Return the ways that nodes with these rows tell; `are_closing` is for each node behind the last tick."""
+    ways = [[()] if True in are_closing else []]
+    numbers = [0 if is_closing else None for is_closing in are_closing]
+    for lot in reversed(list(lots)):
+        found = {}
+        numbers = [_index_of(row, numbers, found) for row in lot]
+        ways.append(list(found))
+    return ways[::-1]
 
 
 def _without_idle_most(frame):
@@ -17,76 +55,55 @@ def _without_idle_most(frame):
     return Frame(frame.length, frame.shortest, None, frame.private, frame.known)
 
 
-class Walker:
-    """Leads from node to node."""
+def _frame_ways(frame):
+    """Return the ways of all days that a frame lets."""
+    plain = _without_idle_most(frame)
+    letters = [[letter for letter in LETTERS if is_let(plain, tick, letter)] for tick in range(plain.length)]
 
-    def __init__(self, frame, looks):
-        makers = [maker for pair in make_makers(looks) for maker in pair]
-        moves = [make_moves(maker) for maker in makers]
-        self.frame = _without_idle_most(frame)
-        self.machines = [Machine(maker, frame.length) for maker in makers]
-        self.first = (*FIRST_HEAD, tuple([machine.first for machine in self.machines]))
-        self.moves = {}
-        for going in ("", "busy", "private"):
-            for letter in LETTERS:
-                self.moves[going, letter] = [move[going, letter] for move in moves]
+    def pairs_ahead(tick, head):
+        behind = [(letter, next_head(plain, head, letter)) for letter in letters[tick]]
+        return [pair for pair in behind if pair[1] is not None]
 
-    def letters_at(self, tick):
-        """Return the letters that the frame lets a tick have."""
-        return [letter for letter in LETTERS if is_let(self.frame, tick, letter)]
+    lots, heads = _explored(plain.length, FIRST_HEAD, pairs_ahead)
+    return _merged(lots, [is_long_enough(plain, head) for head in heads])
 
-    def tables_at(self, tick):
-        """Return the tables of all machines at a tick."""
-        return [machine.tables[tick] for machine in self.machines]
 
-    def pairs_ahead(self, letters, tables, node):
-        """Return the pairs (letter, node behind it) that lead on from a node."""
-        going, run, many, states = node
+def _ways_let(ways, machine):
+    """Return those of the ways that a machine lets."""
+    tables, moves = machine.tables, machine.moves
+
+    def pairs_ahead(tick, key):
+        node, going, state = key
+        row = tables[tick][state]
         told = []
-        for letter in letters:
-            head = next_head(self.frame, (going, run, many), letter)
-            if head is not None:
-                moves = self.moves[going, letter]
-                behind = tuple([table[state][move] for table, state, move in zip(tables, states, moves)])
-                if DEAD not in behind:
-                    told.append((letter, (*head, behind)))
+        for letter, reached in ways[tick][node]:
+            behind = row[moves[going, letter]]
+            if behind != DEAD:
+                told.append((letter, (reached, going_behind(going, letter), behind)))
         return told
 
-    def is_closing(self, node):
-        """Tell whether a node behind all ticks closes; those with a dead state were left out."""
-        going, run, many, _ = node
-        return is_long_enough(self.frame, (going, run, many))
+    lots, last = _explored(len(tables), (0, "", machine.first), pairs_ahead)
+    return _merged(lots, [True for _ in last])
 
 
-def _all_ways(walker):
-    """Return for each tick the nodes that are reached, with their pairs, and behind it those that close."""
-    told = []
-    here = {} if DEAD in walker.first[3] else {walker.first: True}
-    for tick in range(walker.frame.length):
-        letters, tables = walker.letters_at(tick), walker.tables_at(tick)
-        ahead = {node: walker.pairs_ahead(letters, tables, node) for node in here}
-        here = {node: True for pairs in ahead.values() for _, node in pairs}
-        told.append(ahead)
-    told.append({node: [] for node in here if walker.is_closing(node)})
-    return told
-
-
-def _kept(ahead, behind):
-    """Return the nodes ahead of a tick from which a pair leads to one of the nodes behind it, with such pairs."""
-    told = {}
-    for node, pairs in ahead.items():
-        kept = [(letter, reached) for letter, reached in pairs if reached in behind]
-        if len(kept) > 0:
-            told[node] = kept
-    return told
+def _unlike(looks):
+    """Return the looks without those that stand there again."""
+    kept = []
+    for look in looks:
+        if look not in kept:
+            kept.append(look)
+    return kept
 
 
 def closing_ways(frame, looks):
-    """Return, ahead of each tick and behind the last one, the nodes on ways that close, each with its pairs.
-
-    The first node is the only one ahead of the first tick; if no day fits, there is no node anywhere.
-    """
-    lots = _all_ways(Walker(frame, looks))
-    for tick in reversed(range(frame.length)):
-        lots[tick] = _kept(lots[tick], lots[tick + 1])
-    return lots
+    """Return the ways of all days that fit."""
+    makers = [maker for pair in make_makers(_unlike(looks)) for maker in pair if not maker.is_idle(frame)]
+    machines = [Machine(maker, frame.length) for maker in makers]
+    if DEAD in [machine.first for machine in machines]:
+        return [[] for _ in range(frame.length + 1)]
+    ways = _frame_ways(frame)
+    # The ways stay few if the machines that let the fewest things come first.
+    for machine in sorted(machines, key=lambda one: one.size):
+        if len(ways[0]) > 0:
+            ways = _ways_let(ways, machine)
+    return ways

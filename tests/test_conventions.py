@@ -5,14 +5,18 @@ import inspect
 import pathlib
 import unittest
 
-from dimdays import days, errors, frames, knowing, net, rules, showing
+from dimdays import comparing, days, errors, frames, knowing, meetings, net, papers, rules, showing, sure
+from dimdays.comparing import finer, parting, views
 from dimdays.days import Day
 from dimdays.errors import InvalidDay, InvalidFrame, InvalidLooks, InvalidRule
 from dimdays.frames import Frame
 from dimdays.knowing import a_day, fits, is_fit, many_days
+from dimdays.meetings import begins, can_be, ends, fewest, greatest, shared
 from dimdays.net import after, begun, closes, layers
+from dimdays.papers import paper, paper_holds
 from dimdays.rules import Rule, alike
 from dimdays.showing import is_view, read_view, show, view_text
+from dimdays.sure import best_slots, free_days, slot
 
 PACKAGE = pathlib.Path(__file__).resolve().parent.parent / "dimdays"
 
@@ -27,6 +31,10 @@ FUNCTIONS = {
     "frames.py": {"Frame": ["__init__", "knowing", "lets", "read", "__eq__", "__str__"]},
     "net.py": {name: [] for name in ("begun", "after", "closes", "layers")},
     "knowing.py": {name: [] for name in ("is_fit", "fits", "a_day", "many_days")},
+    "sure.py": {name: [] for name in ("sure", "slot", "free_days", "best_slots")},
+    "meetings.py": {name: [] for name in ("fewest", "greatest", "begins", "ends", "can_be", "shared")},
+    "papers.py": {name: [] for name in ("paper", "paper_holds")},
+    "comparing.py": {name: [] for name in ("views", "finer", "parting")},
 }
 
 
@@ -65,6 +73,12 @@ class Interface(unittest.TestCase):
             (begun, "(frame, looks)"), (after, "(frame, looks, tick, standing, letter)"),
             (closes, "(frame, looks, standing)"), (layers, "(frame, looks)"), (is_fit, "(frame, looks, day)"),
             (fits, "(frame, looks)"), (a_day, "(frame, looks)"), (many_days, "(frame, looks)"),
+            (sure.sure, "(frame, looks)"), (slot, "(frame, looks, begin, end)"),
+            (free_days, "(frame, looks, begin, end)"), (best_slots, "(frame, looks, size)"),
+            (fewest, "(frame, looks)"), (greatest, "(frame, looks)"), (begins, "(frame, looks)"),
+            (ends, "(frame, looks)"), (can_be, "(frame, looks)"), (shared, "(several)"),
+            (paper, "(frame, looks, tick, is_taken)"), (paper_holds, "(frame, looks, tick, is_taken, value)"),
+            (views, "(frame, rule)"), (finer, "(frame, p, q)"), (parting, "(frame, p, q)"),
         ]
         for thing, signature in wanted:
             self.assertEqual(str(inspect.signature(thing)), signature)
@@ -82,7 +96,7 @@ class Interface(unittest.TestCase):
         self.assertEqual(set(vars(Frame(3))) >= {"length", "shortest", "most", "private", "known"}, True)
 
     def test_modules(self):
-        for module in (days, errors, frames, knowing, net, rules, showing):
+        for module in (comparing, days, errors, frames, knowing, meetings, net, papers, rules, showing, sure):
             self.assertEqual(pathlib.Path(module.__file__).resolve().parent, PACKAGE)
 
 
@@ -122,6 +136,22 @@ class Arguments(unittest.TestCase):
         self.assertEqual(a_day(looks=looks, frame=frame), Day(3, [(0, 1, False)]))
         self.assertEqual(many_days(looks=looks, frame=frame), 1)
 
+    def test_by_name_in_any_order_for_what_is_known(self):
+        frame, looks = Frame(3), [(Rule(), ((0, 1, "busy"),))]
+        self.assertEqual(sure.sure(looks=looks, frame=frame), ((1, 2), (0,)))
+        self.assertEqual(slot(end=1, begin=0, looks=looks, frame=frame), "never")
+        self.assertEqual(free_days(end=3, begin=1, looks=looks, frame=frame), 1)
+        self.assertEqual(best_slots(size=1, looks=looks, frame=frame), (1, 2))
+        for call, wanted in ((fewest, 1), (greatest, 1), (begins, ((0,), (0,))), (ends, ((1,), (1,))),
+                             (can_be, ((0, 1, False),))):
+            self.assertEqual(call(looks=looks, frame=frame), wanted)
+        self.assertEqual(shared(several=[(frame, looks)]), ((0, 1),))
+        told = paper(is_taken=False, tick=2, looks=looks, frame=frame)
+        self.assertIs(paper_holds(value=told, is_taken=False, tick=2, looks=looks, frame=frame), True)
+        self.assertEqual(views(rule=Rule(4), frame=frame), (((), 1), (((0, 4, "busy"),), 12)))
+        self.assertIs(finer(q=Rule(4), p=Rule(2), frame=frame), True)
+        self.assertEqual(len(parting(q=Rule(2), p=Rule(4), frame=frame)), 2)
+
     def test_true_and_false_are_no_integers(self):
         for wrong in (True, False):
             for call, error in ((lambda: Day(wrong), InvalidDay), (lambda: Day(3, [(wrong, 2, True)]), InvalidDay),
@@ -153,6 +183,9 @@ class Arguments(unittest.TestCase):
         look = (Rule(), ((0, 1, "busy"),))
         for looks in ([look, look], (look, look)):
             self.assertEqual(many_days(Frame(3), looks), 1)
+            self.assertEqual(sure.sure(Frame(3), looks), ((1, 2), (0,)))
+            for several in ([(Frame(3), looks)], ((Frame(3), looks),)):
+                self.assertEqual(shared(several), ((0, 1),))
 
     def test_later_changes_have_no_effect(self):
         meetings = [(0, 1, True)]
@@ -188,8 +221,19 @@ class Arguments(unittest.TestCase):
         text, copied = "length 3 shortest 1 most 3 private taken 0 taken 0", list(looks)
         frame = Frame(3, 1, 3, True, known)
         frame.knowing(1, False)
-        for call in (begun, layers, fits, a_day, many_days):
+        for call in (begun, layers, fits, a_day, many_days, sure.sure, fewest, greatest, begins, ends, can_be):
             call(frame, looks)
+        slot(frame, looks, 0, 1)
+        free_days(frame, looks, 0, 1)
+        best_slots(frame, looks, 1)
+        several = [(frame, looks), (frame, looks)]
+        shared(several)
+        self.assertEqual(several, [(frame, looks), (frame, looks)])
+        told = [[standing] for standing in paper(frame, looks, 0, True)]
+        paper_holds(frame, looks, 0, True, told)
+        self.assertEqual(told, [[standing] for standing in paper(frame, looks, 0, True)])
+        views(frame, looks[0][0])
+        parting(frame, looks[0][0], looks[1][0])
         after(frame, looks, 0, begun(frame, looks), "busy")
         closes(frame, looks, begun(frame, looks))
         is_fit(frame, looks, Day(3))
@@ -211,6 +255,13 @@ class Objects(unittest.TestCase):
                   lambda: many_days(frame, looks),
                   lambda: many_days(Frame(5), ()), lambda: fits(frame, looks), lambda: begun(frame, looks),
                   lambda: after(frame, looks, 0, begun(frame, looks), "busy"), lambda: is_fit(frame, looks, day)]
+        several = [(frame, looks), (Frame(5), ())]
+        calls += [lambda: sure.sure(frame, looks), lambda: slot(frame, looks, 1, 2), lambda: fewest(frame, looks),
+                  lambda: free_days(frame, looks, 1, 2), lambda: best_slots(frame, looks, 2), lambda: shared(several),
+                  lambda: greatest(frame, looks), lambda: begins(frame, looks), lambda: ends(frame, looks),
+                  lambda: can_be(frame, looks), lambda: paper(frame, looks, 0, True),
+                  lambda: paper_holds(frame, looks, 0, True, paper(frame, looks, 0, True)),
+                  lambda: views(frame, rule), lambda: finer(frame, rule, Rule()), lambda: parting(frame, rule, Rule())]
         first = [call() for call in calls]
         again = [call() for call in reversed(calls)]
         self.assertEqual(first, again[::-1])
@@ -241,6 +292,25 @@ class Objects(unittest.TestCase):
                      after(frame, looks, 0, begun(frame, looks), "busy"), layers(frame, looks),
                      layers(frame, looks)[1], layers(frame.knowing(0, False), looks), a_day(frame, looks).meetings):
             self.assertIs(type(told), tuple)
+
+    def test_returned_sequences_are_tuples_throughout(self):
+        looks = [(Rule(2), ((0, 2, "busy"),))]
+        frame = Frame(3, known=[(0, True)])
+        for told in (sure.sure(frame, looks), best_slots(frame, looks, 2), begins(frame, looks), ends(frame, looks),
+                     can_be(frame, looks), can_be(frame.knowing(0, False), looks), shared([(frame, looks)]),
+                     paper(frame, looks, 0, True), views(frame, Rule()), views(frame.knowing(0, False), Rule()),
+                     parting(frame, Rule(2), Rule()), best_slots(frame.knowing(0, False), looks, 2)):
+            self.assertIs(type(told), tuple)
+            self.assertNotIn("[", repr(told))
+
+    def test_bools(self):
+        looks = [(Rule(2), ((0, 2, "busy"),))]
+        frame = Frame(3, known=[(0, True)])
+        told = paper(frame, looks, 0, True)
+        for value in (paper_holds(frame, looks, 0, True, told), paper_holds(frame, looks, 0, False, told),
+                      paper_holds(frame, looks, 0, True, None), finer(frame, Rule(), Rule(2)),
+                      finer(frame, Rule(2), Rule()), frame.lets(Day(3)), alike(Rule(), Rule(2)), is_view(())):
+            self.assertIs(type(value), bool)
 
 
 if __name__ == "__main__":

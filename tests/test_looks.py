@@ -7,9 +7,12 @@ from dimdays.days import Day
 from dimdays.errors import InvalidLooks
 from dimdays.frames import Frame
 from dimdays.knowing import a_day, fits, is_fit, many_days
+from dimdays.meetings import begins, can_be, ends, fewest, greatest, shared
 from dimdays.net import after, begun, closes, layers
+from dimdays.papers import paper, paper_holds
 from dimdays.rules import Rule
 from dimdays.showing import show
+from dimdays.sure import best_slots, free_days, slot, sure
 from samples import nested, things
 
 FRAME = Frame(6)
@@ -26,6 +29,19 @@ CALLS = {
     "fits": lambda looks: fits(FRAME, looks),
     "a_day": lambda looks: a_day(FRAME, looks),
     "many_days": lambda looks: many_days(FRAME, looks),
+    "sure": lambda looks: sure(FRAME, looks),
+    "slot": lambda looks: slot(FRAME, looks, 1, 3),
+    "free_days": lambda looks: free_days(FRAME, looks, 1, 3),
+    "best_slots": lambda looks: best_slots(FRAME, looks, 2),
+    "fewest": lambda looks: fewest(FRAME, looks),
+    "greatest": lambda looks: greatest(FRAME, looks),
+    "begins": lambda looks: begins(FRAME, looks),
+    "ends": lambda looks: ends(FRAME, looks),
+    "can_be": lambda looks: can_be(FRAME, looks),
+    "shared": lambda looks: shared([(FRAME, looks)]),
+    "shared, later": lambda looks: shared([(FRAME, [LOOK]), (FRAME, looks)]),
+    "paper": lambda looks: paper(FRAME, looks, 1, True),
+    "paper_holds": lambda looks: paper_holds(FRAME, looks, 1, True, None),
 }
 
 NO_LOOKS = [
@@ -74,6 +90,16 @@ class Looks(unittest.TestCase):
             self.refuse(2, (LOOK, LOOK, wrong, LOOK, None))
             self.refuse(3, [LOOK] * 3 + [wrong, wrong])
 
+    def test_told_again_behind_an_error(self):
+        for name, call in CALLS.items():
+            first = call([LOOK])
+            with self.assertRaises(InvalidLooks):
+                call([LOOK, LOOK[0]])
+            self.assertEqual(call([LOOK]), first, name)
+            with self.assertRaises(InvalidLooks):
+                call(None)
+            self.assertEqual(call((LOOK,)), first, name)
+
     def test_looks_that_nothing_fits_are_looks(self):
         for view in (((0, 3, "busy"), (1, 2, "busy")), ((40, 99, "private"),), ((0, 10 ** 9, "busy"),)):
             self.assertEqual(many_days(FRAME, [(Rule(), view)]), 0)
@@ -86,6 +112,14 @@ class Impossible(unittest.TestCase):
         self.assertIsNone(a_day(frame, looks))
         self.assertEqual(many_days(frame, looks), 0)
         self.assertEqual(layers(frame, looks), ((),) * (frame.length + 1))
+        self.assertIsNone(sure(frame, looks))
+        self.assertIsNone(slot(frame, looks, 0, 1))
+        self.assertEqual(free_days(frame, looks, 0, 1), 0)
+        self.assertEqual((fewest(frame, looks), greatest(frame, looks)), (None, None))
+        self.assertEqual((begins(frame, looks), ends(frame, looks), can_be(frame, looks)), (None, None, ()))
+        for tick, is_taken in ((0, True), (0, False)):
+            told = paper(frame, looks, tick, is_taken)
+            self.assertIs(paper_holds(frame, looks, tick, is_taken, told), True)
 
     def test_views_that_cannot_come_about(self):
         self.nothing(Rule(), ((0, 3, "busy"), (2, 4, "busy")))
