@@ -2,17 +2,19 @@
 
 from dimdays.letters import day_read
 from dimdays.viewing import views_told
+from dimdays.ways import closing_ways
 
 
 def views(frame, rule):
     """Return all views that days of a frame have by a rule, with how many days have each."""
-    return tuple(sorted([(told[0], many) for told, (many, _) in views_told(frame, (), [rule]).items()]))
+    told = views_told(closing_ways(frame, ()), [rule])
+    return tuple(sorted([(row[0], many) for row, (many, _) in told.items()]))
 
 
 def _parted_letters(frame, p, q):
     """Return the letters of two days that one rule shows alike and the other one does not, or None."""
     firsts = {}
-    for (view, other), (_, letters) in views_told(frame, (), [p, q]).items():
+    for (view, other), (_, letters) in views_told(closing_ways(frame, ()), [p, q]).items():
         told, ahead = firsts.setdefault(view, (other, letters))
         if told != other:
             return ahead, letters

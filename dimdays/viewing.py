@@ -1,10 +1,9 @@
-"""What rules show of the days that fit: all rows of views that come, with how many days have each."""
+"""What rules show of the days that ways tell: all rows of views that come, with how many days have each."""
 
 from dimdays.blocks import WORDS, span_shown
 from dimdays.letters import going_behind
 from dimdays.making import Maker
 from dimdays.standings import next_making
-from dimdays.ways import closing_ways
 
 FIRST_VIEWED = ((), None)
 
@@ -27,12 +26,12 @@ class Viewer(Maker):
         return [(begin, end, self.word) for begin, end in behind]
 
 
-def _step(ways, viewers, tick, here):
+def _step(rows, viewers, tick, here):
     """Return the keys behind a tick, as those ahead of it are told: how many rows of letters lead there, and one."""
     told = {}
     for key, (many, row) in here.items():
         node, going, making = key
-        for letter, reached in ways[tick][node]:
+        for letter, reached in rows[node]:
             made = next_making(viewers, making, tick, letter, going if letter == "on" else letter)
             behind = (reached, going_behind(going, letter), made)
             if behind in told:
@@ -48,14 +47,13 @@ def _views(viewers, making):
                   for pair, tallies in zip(viewers, making)])
 
 
-def views_told(frame, looks, rules):
-    """Return, for all rows of views that days that fit have by some rules, how many have it, and one's letters."""
-    ways = closing_ways(frame, looks)
+def views_told(ways, rules):
+    """Return, for all rows of views that the days of ways have by some rules, how many have it, and one's letters."""
     viewers = [tuple([Viewer(rule, word) for word in WORDS]) for rule in rules]
     first = tuple([(FIRST_VIEWED, FIRST_VIEWED) for _ in rules])
     here = {(node, "", first): (1, ()) for node in range(len(ways[0]))}
-    for tick in range(frame.length):
-        here = _step(ways, viewers, tick, here)
+    for tick, rows in enumerate(ways[:-1]):
+        here = _step(rows, viewers, tick, here)
     told = {}
     for key, (many, row) in here.items():
         found = _views(viewers, key[2])

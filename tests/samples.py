@@ -1,8 +1,10 @@
 """Values for the tests: such as may be passed where any value may be."""
 
 from dimdays.days import Day
+from dimdays.desk import Desk
 from dimdays.errors import InvalidDay, NoMeeting
 from dimdays.frames import Frame
+from dimdays.live import Live
 from dimdays.rules import Rule
 
 
@@ -23,6 +25,7 @@ def things():
         Day(1), Day(9, [(1, 3, False), (3, 5, True)]), Rule(), Rule(2, 1, 3, "one", (1, 2)),
         InvalidDay("length"), NoMeeting(3), [Day(2)], (Rule(), Day(2)), Frame(3), Frame(9, 2, 3, True, [(0, True)]),
         (Frame(3), Rule()), ((0, True),), ((1, 3, "busy"),), [(1, 3, "busy")],
+        Live(Frame(3)), Desk(), [Desk(), Live(Frame(2))],
     ]
 
 

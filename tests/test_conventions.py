@@ -5,12 +5,17 @@ import inspect
 import pathlib
 import unittest
 
-from dimdays import comparing, days, errors, frames, knowing, meetings, net, papers, rules, showing, sure
+from dimdays import changes, choosing, comparing, days, desk, errors, frames, knowing, live, meetings, net, papers
+from dimdays import rules, showing, sure
+from dimdays.changes import change, least_change
+from dimdays.choosing import answers, best_looks, left, veils
 from dimdays.comparing import finer, parting, views
 from dimdays.days import Day
-from dimdays.errors import InvalidDay, InvalidFrame, InvalidLooks, InvalidRule
+from dimdays.desk import Desk
+from dimdays.errors import InvalidCommand, InvalidDay, InvalidFrame, InvalidLooks, InvalidRule, InvalidSlot, Refused
 from dimdays.frames import Frame
 from dimdays.knowing import a_day, fits, is_fit, many_days
+from dimdays.live import Live
 from dimdays.meetings import begins, can_be, ends, fewest, greatest, shared
 from dimdays.net import after, begun, closes, layers
 from dimdays.papers import paper, paper_holds
@@ -35,6 +40,10 @@ FUNCTIONS = {
     "meetings.py": {name: [] for name in ("fewest", "greatest", "begins", "ends", "can_be", "shared")},
     "papers.py": {name: [] for name in ("paper", "paper_holds")},
     "comparing.py": {name: [] for name in ("views", "finer", "parting")},
+    "choosing.py": {name: [] for name in ("left", "best_looks", "answers", "veils")},
+    "changes.py": {name: [] for name in ("least_change", "change")},
+    "live.py": {"Live": ["__init__", "look", "know", "several", "undo", "within", "__len__"]},
+    "desk.py": {"Desk": ["__init__", "say"]},
 }
 
 
@@ -46,6 +55,22 @@ def defined(file):
             found[part.name] = [inner.name for inner in part.body if isinstance(inner, ast.FunctionDef)] \
                 if isinstance(part, ast.ClassDef) else []
     return found
+
+
+def filled_live():
+    """Return a live thing with deeds."""
+    one = Live(Frame(3))
+    one.know(0, True)
+    one.look(Rule(), ((0, 1, "busy"),))
+    return one
+
+
+def filled_desk():
+    """Return a desk at which something was said."""
+    place = Desk()
+    place.say("frame length 3 shortest 1")
+    place.say("know 0 taken")
+    return place
 
 
 class Interface(unittest.TestCase):
@@ -79,6 +104,12 @@ class Interface(unittest.TestCase):
             (ends, "(frame, looks)"), (can_be, "(frame, looks)"), (shared, "(several)"),
             (paper, "(frame, looks, tick, is_taken)"), (paper_holds, "(frame, looks, tick, is_taken, value)"),
             (views, "(frame, rule)"), (finer, "(frame, p, q)"), (parting, "(frame, p, q)"),
+            (left, "(frame, looks, rule)"), (best_looks, "(frame, looks, rules)"),
+            (answers, "(frame, rule, begin, end)"), (veils, "(frame, rule, begin, end, word)"),
+            (least_change, "(frame, looks, later)"), (change, "(frame, looks, later)"),
+            (Live, "(frame)"), (Live.look, "(self, rule, view)"), (Live.know, "(self, tick, is_taken)"),
+            (Live.several, "(self, looks)"), (Live.undo, "(self)"), (Live.within, "(self, work)"),
+            (Desk, "()"), (Desk.say, "(self, command)"),
         ]
         for thing, signature in wanted:
             self.assertEqual(str(inspect.signature(thing)), signature)
@@ -94,9 +125,12 @@ class Interface(unittest.TestCase):
         self.assertEqual(set(vars(Day(3))) >= {"length", "meetings"}, True)
         self.assertEqual(set(vars(Rule())) >= {"step", "gap", "least", "private", "hours"}, True)
         self.assertEqual(set(vars(Frame(3))) >= {"length", "shortest", "most", "private", "known"}, True)
+        self.assertEqual(set(vars(Live(Frame(3)))) >= {"frame", "looks"}, True)
+        self.assertEqual(set(vars(Desk())) >= {"live"}, True)
 
     def test_modules(self):
-        for module in (comparing, days, errors, frames, knowing, meetings, net, papers, rules, showing, sure):
+        for module in (changes, choosing, comparing, days, desk, errors, frames, knowing, live, meetings, net, papers,
+                       rules, showing, sure):
             self.assertEqual(pathlib.Path(module.__file__).resolve().parent, PACKAGE)
 
 
@@ -152,6 +186,31 @@ class Arguments(unittest.TestCase):
         self.assertIs(finer(q=Rule(4), p=Rule(2), frame=frame), True)
         self.assertEqual(len(parting(q=Rule(2), p=Rule(4), frame=frame)), 2)
 
+    def test_by_name_in_any_order_for_choices_and_changes(self):
+        frame, looks = Frame(3), [(Rule(), ((0, 1, "busy"),))]
+        self.assertEqual(left(rule=Rule(2), looks=looks, frame=frame), 1)
+        self.assertEqual(best_looks(rules=[Rule(4), Rule()], looks=[], frame=frame), (1,))
+        self.assertEqual(answers(end=1, begin=0, rule=Rule(4), frame=frame), ("always", "sometimes"))
+        self.assertIn(str(Rule(4)), veils(word="never", end=1, begin=0, rule=Rule(4), frame=frame))
+        self.assertEqual(least_change(later=looks, looks=[(Rule(), ())], frame=frame), 1)
+        self.assertEqual(change(later=looks, looks=[(Rule(), ())], frame=frame), (Day(3), Day(3, [(0, 1, False)])))
+        one = Live(frame=frame)
+        self.assertEqual((one.look(view=((0, 1, "busy"),), rule=Rule()), one.know(is_taken=True, tick=0)), (1, 1))
+        self.assertEqual((one.several(looks=()), one.within(work=len), Desk().say(command="frame length 1 shortest 1")),
+                         (1, 3, "2"))
+
+    def test_errors_in_their_order(self):
+        frame, wrong = Frame(3), [(Rule(), ()), None]
+        for call in (slot, free_days):
+            self.assertRaises(InvalidLooks, call, frame, wrong, None, None)
+        for at, looks, later in ((1, wrong, None), (0, None, wrong), (1, [], wrong)):
+            for call in (least_change, change):
+                with self.assertRaises(InvalidLooks) as caught:
+                    call(frame, looks, later)
+                self.assertEqual(caught.exception.at, at)
+        self.assertRaises(InvalidSlot, answers, frame, Rule(), 0, None)
+        self.assertRaises(InvalidCommand, Desk().say, "know 9 taken")
+
     def test_true_and_false_are_no_integers(self):
         for wrong in (True, False):
             for call, error in ((lambda: Day(wrong), InvalidDay), (lambda: Day(3, [(wrong, 2, True)]), InvalidDay),
@@ -162,7 +221,14 @@ class Arguments(unittest.TestCase):
                                 (lambda: Frame(3, known=[(wrong, True)]), InvalidFrame),
                                 (lambda: Frame(3).knowing(wrong, True), InvalidFrame),
                                 (lambda: fits(Frame(3), [(Rule(), ((wrong, 2, "busy"),))]), InvalidLooks),
-                                (lambda: fits(Frame(3), [(Rule(), ((0, wrong, "busy"),))]), InvalidLooks)):
+                                (lambda: fits(Frame(3), [(Rule(), ((0, wrong, "busy"),))]), InvalidLooks),
+                                (lambda: slot(Frame(3), (), wrong, 2), InvalidSlot),
+                                (lambda: free_days(Frame(3), (), 0, wrong), InvalidSlot),
+                                (lambda: answers(Frame(3), Rule(), wrong, 3), InvalidSlot),
+                                (lambda: veils(Frame(3), Rule(), 0, wrong, "never"), InvalidSlot),
+                                (lambda: Live(Frame(3)).know(wrong, True), InvalidFrame),
+                                (lambda: Live(Frame(3)).look(Rule(), ((wrong, 2, "busy"),)), InvalidLooks),
+                                (lambda: Live(Frame(3)).several([(Rule(), ((0, wrong, "busy"),))]), Refused)):
                 self.assertRaises(error, call)
             self.assertIs(is_view(((wrong, 2, "busy"),)), False)
             self.assertIs(is_view(((0, wrong, "busy"),)), False)
@@ -172,7 +238,7 @@ class Arguments(unittest.TestCase):
             with self.assertRaises(InvalidDay):
                 Day(3, [(0, 1, wrong)])
             for call in (lambda: Frame(3, private=wrong), lambda: Frame(3, known=[(0, wrong)]),
-                         lambda: Frame(3).knowing(0, wrong)):
+                         lambda: Frame(3).knowing(0, wrong), lambda: Live(Frame(3)).know(0, wrong)):
                 self.assertRaises(InvalidFrame, call)
 
     def test_lists_and_tuples_as_sequences(self):
@@ -186,6 +252,10 @@ class Arguments(unittest.TestCase):
             self.assertEqual(sure.sure(Frame(3), looks), ((1, 2), (0,)))
             for several in ([(Frame(3), looks)], ((Frame(3), looks),)):
                 self.assertEqual(shared(several), ((0, 1),))
+            for rules_asked in ([Rule(), Rule(2)], (Rule(), Rule(2))):
+                self.assertEqual(best_looks(Frame(3), looks, rules_asked), (0, 1))
+            self.assertEqual(least_change(Frame(3), looks, looks), 0)
+            self.assertEqual(Live(Frame(3)).several(looks), 1)
 
     def test_later_changes_have_no_effect(self):
         meetings = [(0, 1, True)]
@@ -234,6 +304,17 @@ class Arguments(unittest.TestCase):
         self.assertEqual(told, [[standing] for standing in paper(frame, looks, 0, True)])
         views(frame, looks[0][0])
         parting(frame, looks[0][0], looks[1][0])
+        rules_asked = [Rule(), Rule(2)]
+        best_looks(frame, looks, rules_asked)
+        self.assertEqual(rules_asked, [Rule(), Rule(2)])
+        left(frame, looks, Rule())
+        change(frame, looks, looks)
+        veils(frame, Rule(), 0, 1, "never")
+        one = Live(frame)
+        one.several(looks)
+        one.look(*looks[0])
+        one.know(1, False)
+        one.within(lambda again: again.undo())
         after(frame, looks, 0, begun(frame, looks), "busy")
         closes(frame, looks, begun(frame, looks))
         is_fit(frame, looks, Day(3))
@@ -261,14 +342,25 @@ class Objects(unittest.TestCase):
                   lambda: greatest(frame, looks), lambda: begins(frame, looks), lambda: ends(frame, looks),
                   lambda: can_be(frame, looks), lambda: paper(frame, looks, 0, True),
                   lambda: paper_holds(frame, looks, 0, True, paper(frame, looks, 0, True)),
-                  lambda: views(frame, rule), lambda: finer(frame, rule, Rule()), lambda: parting(frame, rule, Rule())]
+                  lambda: views(frame, rule), lambda: finer(frame, rule, Rule()), lambda: parting(frame, rule, Rule()),
+                  lambda: left(frame, looks, Rule()), lambda: best_looks(frame, looks, [Rule(), rule]),
+                  lambda: answers(frame, rule, 0, 2), lambda: veils(frame, rule, 0, 2, "always"),
+                  lambda: least_change(frame, looks, ()), lambda: change(frame, looks, [(Rule(2), ((0, 4, "busy"),))])]
+        one, place = Live(frame), Desk()
+        one.several(looks)
+        place.say("frame length 4 shortest 1")
+        calls += [lambda: one.frame, lambda: one.looks, lambda: len(one),
+                  lambda: one.within(lambda again: again.know(1, True)), lambda: place.say("free"),
+                  lambda: place.say("slot 0 2"), lambda: place.say("meetings"), lambda: place.live,
+                  lambda: place.say("taken"), lambda: place.say("undo")]
         first = [call() for call in calls]
         again = [call() for call in reversed(calls)]
         self.assertEqual(first, again[::-1])
 
     def test_not_iterable(self):
         for thing in (Day(3), Day(3, [(0, 1, True), (1, 2, False)]), Rule(), Rule(hours=(1, 2)), InvalidDay("length"),
-                      Frame(3), Frame(3, known=[(0, True)])):
+                      Frame(3), Frame(3, known=[(0, True)]), Live(Frame(3)), filled_live(), Desk(), filled_desk(),
+                      Refused(0), InvalidSlot()):
             with self.assertRaises(TypeError):
                 iter(thing)
             with self.assertRaises(TypeError):
@@ -280,7 +372,7 @@ class Objects(unittest.TestCase):
                     self.fail(part)
 
     def test_nothing_in_them(self):
-        for thing in (Day(3, [(0, 1, True)]), Rule(), Frame(3, known=[(0, True)])):
+        for thing in (Day(3, [(0, 1, True)]), Rule(), Frame(3, known=[(0, True)]), filled_live(), filled_desk()):
             with self.assertRaises(TypeError):
                 (0, 1, True) in thing
 
@@ -299,7 +391,10 @@ class Objects(unittest.TestCase):
         for told in (sure.sure(frame, looks), best_slots(frame, looks, 2), begins(frame, looks), ends(frame, looks),
                      can_be(frame, looks), can_be(frame.knowing(0, False), looks), shared([(frame, looks)]),
                      paper(frame, looks, 0, True), views(frame, Rule()), views(frame.knowing(0, False), Rule()),
-                     parting(frame, Rule(2), Rule()), best_slots(frame.knowing(0, False), looks, 2)):
+                     parting(frame, Rule(2), Rule()), best_slots(frame.knowing(0, False), looks, 2),
+                     best_looks(frame, looks, []), best_looks(frame, looks, [Rule()]), answers(frame, Rule(), 0, 1),
+                     veils(frame, Rule(), 0, 1, "never"), change(frame, looks, looks), filled_live().looks,
+                     Live(frame).looks):
             self.assertIs(type(told), tuple)
             self.assertNotIn("[", repr(told))
 
@@ -309,7 +404,8 @@ class Objects(unittest.TestCase):
         told = paper(frame, looks, 0, True)
         for value in (paper_holds(frame, looks, 0, True, told), paper_holds(frame, looks, 0, False, told),
                       paper_holds(frame, looks, 0, True, None), finer(frame, Rule(), Rule(2)),
-                      finer(frame, Rule(2), Rule()), frame.lets(Day(3)), alike(Rule(), Rule(2)), is_view(())):
+                      finer(frame, Rule(2), Rule()), frame.lets(Day(3)), alike(Rule(), Rule(2)), is_view(()),
+                      filled_live().undo(), Live(frame).undo()):
             self.assertIs(type(value), bool)
 
 

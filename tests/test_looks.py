@@ -3,6 +3,8 @@
 import unittest
 
 from brute import all_days, plain_fits, some_question
+from dimdays.changes import change, least_change
+from dimdays.choosing import best_looks, left
 from dimdays.days import Day
 from dimdays.errors import InvalidLooks
 from dimdays.frames import Frame
@@ -42,6 +44,13 @@ CALLS = {
     "shared, later": lambda looks: shared([(FRAME, [LOOK]), (FRAME, looks)]),
     "paper": lambda looks: paper(FRAME, looks, 1, True),
     "paper_holds": lambda looks: paper_holds(FRAME, looks, 1, True, None),
+    "left": lambda looks: left(FRAME, looks, Rule()),
+    "best_looks": lambda looks: best_looks(FRAME, looks, [Rule(), Rule(2)]),
+    "best_looks of none": lambda looks: best_looks(FRAME, looks, []),
+    "least_change": lambda looks: least_change(FRAME, looks, [LOOK]),
+    "least_change, later": lambda looks: least_change(FRAME, [LOOK], looks),
+    "change": lambda looks: change(FRAME, looks, [LOOK]),
+    "change, later": lambda looks: change(FRAME, [LOOK], looks),
 }
 
 NO_LOOKS = [
@@ -117,6 +126,9 @@ class Impossible(unittest.TestCase):
         self.assertEqual(free_days(frame, looks, 0, 1), 0)
         self.assertEqual((fewest(frame, looks), greatest(frame, looks)), (None, None))
         self.assertEqual((begins(frame, looks), ends(frame, looks), can_be(frame, looks)), (None, None, ()))
+        self.assertEqual((left(frame, looks, Rule()), best_looks(frame, looks, [Rule(), Rule(2)])), (0, (0, 1)))
+        for one, other in ((looks, ()), ((), looks), (looks, looks)):
+            self.assertEqual((least_change(frame, one, other), change(frame, one, other)), (None, None))
         for tick, is_taken in ((0, True), (0, False)):
             told = paper(frame, looks, tick, is_taken)
             self.assertIs(paper_holds(frame, looks, tick, is_taken, told), True)

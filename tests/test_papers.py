@@ -123,7 +123,8 @@ class Ordinary(unittest.TestCase):
         self.assertIs(paper_holds(FRAME, LOOKS, 2, True, told), False)
 
     def test_for_another_tick_or_the_other_way_round(self):
-        told = {(tick, is_taken): paper(FRAME, LOOKS, tick, is_taken) for tick in range(8) for is_taken in (True, False)}
+        told = {(tick, is_taken): paper(FRAME, LOOKS, tick, is_taken)
+                for tick in range(8) for is_taken in (True, False)}
         free, taken = sure(FRAME, LOOKS)
         for (tick, is_taken), value in told.items():
             self.assertEqual(value is not None, tick in (taken if is_taken else free))
@@ -258,7 +259,8 @@ class AnyValues(unittest.TestCase):
         self.assertGreater(tried, 30)
 
     def test_wrong_looks_come_first(self):
-        for call in (lambda looks: paper(FRAME, looks, 3, True), lambda looks: paper_holds(FRAME, looks, 3, True, None)):
+        for call in (lambda looks: paper(FRAME, looks, 3, True),
+                     lambda looks: paper_holds(FRAME, looks, 3, True, None)):
             for looks, at in ((None, 0), ([LOOKS[0], 3], 1), (LOOKS[0], 0)):
                 with self.assertRaises(InvalidLooks) as caught:
                     call(looks)
