@@ -11,10 +11,12 @@ def _cost(letter, other, is_same):
     `is_same` is whether the days are in meetings that are the same as far as they were read.
     """
     if letter == other:
-        return 0, is_same if letter == "on" else letter in KINDS
+        return 0, (is_same if letter == "on" else letter in KINDS)
     cost = len([one for one in (letter, other) if one in KINDS])
-    # One of the meetings that were the same until here ends, and the other one goes on.
-    return cost + 2 if is_same and "on" in (letter, other) else cost, False
+    if is_same and "on" in (letter, other):
+        # One of the meetings that were the same until here ends, and the other one goes on.
+        cost += 2
+    return cost, False
 
 
 def _pairs_behind(row, later):

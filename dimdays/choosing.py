@@ -28,7 +28,8 @@ def best_looks(frame, looks, rules):
     check_looks(looks)
     ways = closing_ways(frame, looks)
     counts = [_most_left(ways, rule) for rule in rules]
-    return tuple([at for at, many in enumerate(counts) if many == min(counts)])
+    least = min(counts, default=0)
+    return tuple([at for at, many in enumerate(counts) if many == least])
 
 
 def _free_ways(frame, begin, end):

@@ -18,7 +18,7 @@ class Viewer(Maker):
         """Return the tally when its block lies behind."""
         behind, block = tally
         span = None if block is None else span_shown(self.rule, block[0], block[1])
-        return behind if span is None else (*behind, span), None
+        return (behind if span is None else (*behind, span)), None
 
     def blocks(self, tally):
         """Return all blocks of the word, with those that are being made."""
