@@ -9,11 +9,23 @@ def first_standing(looks):
     return (*FIRST_HEAD, tuple([(FIRST_TALLY, FIRST_TALLY) for _ in looks]))
 
 
-def _next_tally(maker, tally, tick, letter, kind):
-    """Return the tally behind a letter that speaks of a meeting of a kind, or None if the letter is not possible."""
-    if not maker.takes(kind):
-        return tally
+def _next_tally(maker, tally, tick, letter):
+    """Return the tally behind a letter that speaks of a meeting of its word, or None if it is not possible."""
     return maker.gone_on(tally, tick) if letter == "on" else maker.started(tally, tick)
+
+
+def _next_pair(pair, tallies, tick, letter, kind):
+    """Return what one look makes behind a letter that speaks of a meeting of a kind, or None if it is not possible."""
+    of_busy, of_private = pair
+    busy, private = tallies
+    # A meeting has at most one word.
+    if of_busy.takes(kind):
+        behind = _next_tally(of_busy, busy, tick, letter)
+        return None if behind is None else (behind, private)
+    if of_private.takes(kind):
+        behind = _next_tally(of_private, private, tick, letter)
+        return None if behind is None else (busy, behind)
+    return tallies
 
 
 def next_making(makers, making, tick, letter, kind):
@@ -22,10 +34,10 @@ def next_making(makers, making, tick, letter, kind):
         return making
     told = []
     for pair, tallies in zip(makers, making):
-        behind = [_next_tally(maker, tally, tick, letter, kind) for maker, tally in zip(pair, tallies)]
-        if None in behind:
+        behind = _next_pair(pair, tallies, tick, letter, kind)
+        if behind is None:
             return None
-        told.append(tuple(behind))
+        told.append(behind)
     return tuple(told)
 
 
