@@ -54,16 +54,16 @@ def answers(frame, rule, begin, end):
 
 
 def _others(rule):
-    """Return the rules that have one argument in the place of the rule's own, which may be equal to it."""
+    """Return the rules that differ from a rule in one argument, among the values that are tried for each."""
     steps = [rule.but(step=step) for step in range(1, 5)]
     gaps = [rule.but(gap=gap) for gap in range(5)]
     leasts = [rule.but(least=least) for least in range(5)]
-    return steps + gaps + leasts + [rule.but(private=word) for word in PRIVATE_WORDS]
+    tried = steps + gaps + leasts + [rule.but(private=word) for word in PRIVATE_WORDS]
+    return [other for other in tried if other != rule]
 
 
 def veils(frame, rule, begin, end, word):
-    """Return the texts of all rules, but for one argument like a rule, by which `slot` never tells a word of a slot."""
+    """Return the texts of the rules, unlike a rule in one argument, by which `slot` never tells a word of a slot."""
     check_slot(frame, begin, end)
     ways, free = closing_ways(frame, ()), _free_ways(frame, begin, end)
-    others = {str(other): other for other in _others(rule)}
-    return tuple(sorted([text for text, other in others.items() if word not in _words(ways, free, other)]))
+    return tuple(sorted([str(other) for other in _others(rule) if word not in _words(ways, free, other)]))

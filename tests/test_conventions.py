@@ -191,7 +191,7 @@ class Arguments(unittest.TestCase):
         self.assertEqual(left(rule=Rule(2), looks=looks, frame=frame), 1)
         self.assertEqual(best_looks(rules=[Rule(4), Rule()], looks=[], frame=frame), (1,))
         self.assertEqual(answers(end=1, begin=0, rule=Rule(4), frame=frame), ("always", "sometimes"))
-        self.assertIn(str(Rule(4)), veils(word="never", end=1, begin=0, rule=Rule(4), frame=frame))
+        self.assertIn(str(Rule(3)), veils(word="never", end=1, begin=0, rule=Rule(4), frame=frame))
         self.assertEqual(least_change(later=looks, looks=[(Rule(), ())], frame=frame), 1)
         self.assertEqual(change(later=looks, looks=[(Rule(), ())], frame=frame), (Day(3), Day(3, [(0, 1, False)])))
         one = Live(frame=frame)
